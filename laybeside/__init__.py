@@ -1,0 +1,1 @@
+"""Laybeside: rows of letters laid beside one another."""

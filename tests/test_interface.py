@@ -1,0 +1,104 @@
+"""The interface of the document: names, arguments, and the files in which they are defined."""
+
+import ast
+import inspect
+import pathlib
+import unittest
+
+from laybeside import errors, kinds, scales
+
+PACKAGE = pathlib.Path(__file__).resolve().parent.parent / "laybeside"
+
+# Each function and class, with its arguments; those behind a star are handed in by name.
+ERRORS = {
+    "Wrong": "(at)", "NoLetter": "(letter)", "NoNumber": "(number)", "NoPlace": "(at)", "TooLong": "(most)",
+    "TooMany": "(most)", "Bare": "(at)", "NoRow": "(at)", "NoName": "(name)", "There": "(name)",
+    "NotOne": "(name)", "NoLog": "(at)",
+}
+PLAIN_ERRORS = ["LayError", "Unlike", "NotBest", "Alone", "Nothing", "NoText", "NoLine"]
+KINDS = [
+    "is_whole", "is_worth", "is_price", "is_great_worth", "is_great_price", "is_letter", "is_row", "is_name",
+    "is_step", "is_path", "is_gapped", "is_side", "are_ends",
+]
+SCALE = {
+    "letters": "(self)", "worths": "(self)", "worth_of": "(self, one, other)", "opening": "(self)",
+    "each": "(self)", "knows": "(self, row)", "turned": "(self)",
+}
+
+
+def tree_of(path):
+    return ast.parse(path.read_text(encoding="ascii"))
+
+
+def defined_in(body):
+    """The names of the functions and classes that are defined right there."""
+    return [part.name for part in body if isinstance(part, (ast.FunctionDef, ast.ClassDef))]
+
+
+class TheInterface(unittest.TestCase):
+    def test_errors(self):
+        names = defined_in(tree_of(PACKAGE / "errors.py").body)
+        for name in [*ERRORS, *PLAIN_ERRORS]:
+            self.assertIn(name, names)
+        for name, arguments in ERRORS.items():
+            with self.subTest(name=name):
+                self.assertEqual(str(inspect.signature(getattr(errors, name))), arguments)
+
+    def test_kinds(self):
+        names = defined_in(tree_of(PACKAGE / "kinds.py").body)
+        for name in KINDS:
+            with self.subTest(name=name):
+                self.assertIn(name, names)
+                self.assertEqual(str(inspect.signature(getattr(kinds, name))), "(thing)")
+
+    def test_scales(self):
+        self.assertIn("Scale", defined_in(tree_of(PACKAGE / "scales.py").body))
+        self.assertEqual(str(inspect.signature(scales.Scale)), "(letters, worths, *, opening=3, each=1)")
+        for name, arguments in SCALE.items():
+            with self.subTest(name=name):
+                self.assertIn(name, vars(scales.Scale))
+                self.assertEqual(str(inspect.signature(vars(scales.Scale)[name])), arguments)
+
+
+class TheLanguage(unittest.TestCase):
+    """Some of the rules of the language that are soon broken unseen."""
+
+    def setUp(self):
+        self.files = sorted(PACKAGE.rglob("*.py"))
+        self.assertIn(PACKAGE / "__init__.py", self.files)
+
+    def test_signs_and_sizes(self):
+        for path in self.files:
+            with self.subTest(path=path.name):
+                text = path.read_text(encoding="ascii")
+                self.assertTrue(all(sign == "\n" or " " <= sign <= "~" for sign in text))
+                lines = text.split("\n")
+                self.assertLessEqual(len(lines), 399)
+                self.assertLessEqual(max(len(line) for line in lines), 120)
+
+    def test_functions_are_small(self):
+        for path in self.files:
+            for part in ast.walk(tree_of(path)):
+                if isinstance(part, ast.FunctionDef):
+                    with self.subTest(path=path.name, name=part.name):
+                        self.assertLessEqual(part.end_lineno - part.lineno + 1, 40)
+
+    def test_imports_come_from_the_package_or_the_few_allowed(self):
+        allowed = ("laybeside", "heapq", "math", "itertools", "collections", "__future__")
+        for path in self.files:
+            for part in ast.walk(tree_of(path)):
+                self.assertNotIsInstance(part, ast.Import)
+                if isinstance(part, ast.ImportFrom):
+                    with self.subTest(path=path.name, module=part.module):
+                        self.assertEqual(part.level, 0)
+                        self.assertIn(part.module.split(".")[0], allowed)
+
+    def test_no_text_has_a_percent_sign(self):
+        for path in self.files:
+            for part in ast.walk(tree_of(path)):
+                if isinstance(part, ast.Constant) and isinstance(part.value, str):
+                    self.assertNotIn("%", part.value)
+
+
+if __name__ == "__main__":
+    unittest.main()
