@@ -130,3 +130,9 @@ def refuse_wrong(as_told):
     for at, right in enumerate(as_told):
         if not right:
             raise Wrong(at)
+
+
+def refuse_no_place(at, many):
+    """Refuse with NoPlace a place, counted from 0, where there are not so many."""
+    if at >= many:
+        raise NoPlace(at)

@@ -9,7 +9,8 @@ MOST_NAME = 8
 MOST_PATH = 120
 
 
-def _is_from_to(thing, least, most):
+def is_from_to(thing, least, most):
+    """Whether it is a whole number from least to most."""
     return is_whole(thing) and least <= thing <= most
 
 
@@ -21,29 +22,39 @@ def _is_text_of(thing, signs, least, most):
     return all(sign in signs for sign in thing)
 
 
+def is_list(thing, least, most):
+    """Whether it is a list of least to most things."""
+    return isinstance(thing, list) and least <= len(thing) <= most
+
+
 def is_whole(thing):
     """Whether it is an int that is no truth."""
     return isinstance(thing, int) and not isinstance(thing, bool)
 
 
+def is_from_nought(thing):
+    """Whether it is a whole number from 0 on."""
+    return is_whole(thing) and thing >= 0
+
+
 def is_worth(thing):
     """Whether it is a whole number from -10 ** 6 to 10 ** 6."""
-    return _is_from_to(thing, -MOST_WORTH, MOST_WORTH)
+    return is_from_to(thing, -MOST_WORTH, MOST_WORTH)
 
 
 def is_price(thing):
     """Whether it is a whole number from 0 to 10 ** 6."""
-    return _is_from_to(thing, 0, MOST_WORTH)
+    return is_from_to(thing, 0, MOST_WORTH)
 
 
 def is_great_worth(thing):
     """Whether it is a whole number from -10 ** 12 to 10 ** 12."""
-    return _is_from_to(thing, -MOST_GREAT, MOST_GREAT)
+    return is_from_to(thing, -MOST_GREAT, MOST_GREAT)
 
 
 def is_great_price(thing):
     """Whether it is a whole number from 0 to 10 ** 12."""
-    return _is_from_to(thing, 0, MOST_GREAT)
+    return is_from_to(thing, 0, MOST_GREAT)
 
 
 def is_letter(thing):

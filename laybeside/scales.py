@@ -1,7 +1,7 @@
 """Scales: what pairs of letters are worth, and what gaps cost."""
 
 from laybeside.errors import NoLetter, refuse_wrong
-from laybeside.kinds import is_letter, is_price, is_row, is_worth
+from laybeside.kinds import is_letter, is_list, is_price, is_row, is_worth
 
 OPENING = 3
 EACH = 1
@@ -15,15 +15,18 @@ def _are_letters(thing):
 
 def _are_worths(thing, many):
     """Whether it is a list of so many lists of so many worths."""
-    return _is_list_of(thing, many) and all(_is_line(line, many) for line in thing)
+    return is_list(thing, many, many) and all(_is_line(line, many) for line in thing)
 
 
 def _is_line(thing, many):
-    return _is_list_of(thing, many) and all(is_worth(worth) for worth in thing)
+    return is_list(thing, many, many) and all(is_worth(worth) for worth in thing)
 
 
-def _is_list_of(thing, many):
-    return isinstance(thing, list) and len(thing) == many
+def refuse_strange(letters, scale):
+    """Refuse with NoLetter the first of the letters that is not the scale's."""
+    for letter in letters:
+        if letter not in scale.letters():
+            raise NoLetter(letter)
 
 
 class Scale:
@@ -50,9 +53,7 @@ class Scale:
     def worth_of(self, one, other):
         """What one letter, of the over row, is worth with another one."""
         refuse_wrong([is_letter(one), is_letter(other)])
-        for letter in (one, other):
-            if letter not in self._letters:
-                raise NoLetter(letter)
+        refuse_strange(one + other, self)
         return self._worths[self._letters.index(one)][self._letters.index(other)]
 
     def opening(self):

@@ -5,7 +5,7 @@ import inspect
 import pathlib
 import unittest
 
-from laybeside import errors, kinds, scales
+from laybeside import bounds, errors, fields, kinds, paths, scales
 
 PACKAGE = pathlib.Path(__file__).resolve().parent.parent / "laybeside"
 
@@ -20,9 +20,29 @@ KINDS = [
     "is_whole", "is_worth", "is_price", "is_great_worth", "is_great_price", "is_letter", "is_row", "is_name",
     "is_step", "is_path", "is_gapped", "is_side", "are_ends",
 ]
-SCALE = {
-    "letters": "(self)", "worths": "(self)", "worth_of": "(self, one, other)", "opening": "(self)",
-    "each": "(self)", "knows": "(self, row)", "turned": "(self)",
+WHOLE = "(False, False, False, False)"
+# Each module's functions with their arguments, and its classes with theirs and those of their methods.
+FUNCTIONS = {
+    fields: {"field_of": "(over, under, scale)"},
+    paths: {
+        "fits": "(field, path)", "worth_of_path": f"(field, path, *, ends={WHOLE})",
+        "step_worth": f"(field, at, to, step, ahead, *, ends={WHOLE})", "cells_of": "(path)", "runs_of": "(path)",
+        "turned_path": "(path)", "gapped": "(over, under, path)", "path_between": "(one, other)",
+    },
+    bounds: {"is_fair": f"(field, table, *, ends={WHOLE})"},
+}
+CLASSES = {
+    (scales, "Scale", "(letters, worths, *, opening=3, each=1)"): {
+        "letters": "(self)", "worths": "(self)", "worth_of": "(self, one, other)", "opening": "(self)",
+        "each": "(self)", "knows": "(self, row)", "turned": "(self)",
+    },
+    (fields, "Field", "(pairs, over, under, *, opening=0)"): {
+        "high": "(self)", "wide": "(self)", "pair": "(self, at, to)", "over_price": "(self, at)",
+        "under_price": "(self, to)", "opening": "(self)", "turned": "(self)",
+    },
+    (bounds, "Bounds", f"(field, *, ends={WHOLE})"): {
+        "bound": "(self, at, to, step)", "table": "(self)", "worth": "(self)", "path": "(self)", "ends": "(self)",
+    },
 }
 
 
@@ -33,6 +53,11 @@ def tree_of(path):
 def defined_in(body):
     """The names of the functions and classes that are defined right there."""
     return [part.name for part in body if isinstance(part, (ast.FunctionDef, ast.ClassDef))]
+
+
+def defined_in_file_of(module):
+    """The names that are defined in the file of a module."""
+    return defined_in(tree_of(PACKAGE / (module.__name__.split(".")[-1] + ".py")).body)
 
 
 class TheInterface(unittest.TestCase):
@@ -51,13 +76,24 @@ class TheInterface(unittest.TestCase):
                 self.assertIn(name, names)
                 self.assertEqual(str(inspect.signature(getattr(kinds, name))), "(thing)")
 
-    def test_scales(self):
-        self.assertIn("Scale", defined_in(tree_of(PACKAGE / "scales.py").body))
-        self.assertEqual(str(inspect.signature(scales.Scale)), "(letters, worths, *, opening=3, each=1)")
-        for name, arguments in SCALE.items():
-            with self.subTest(name=name):
-                self.assertIn(name, vars(scales.Scale))
-                self.assertEqual(str(inspect.signature(vars(scales.Scale)[name])), arguments)
+    def test_functions(self):
+        for module, functions in FUNCTIONS.items():
+            names = defined_in_file_of(module)
+            for name, arguments in functions.items():
+                with self.subTest(module=module.__name__, name=name):
+                    self.assertIn(name, names)
+                    self.assertEqual(str(inspect.signature(getattr(module, name))), arguments)
+
+    def test_classes(self):
+        for (module, name, arguments), methods in CLASSES.items():
+            with self.subTest(module=module.__name__, name=name):
+                self.assertIn(name, defined_in_file_of(module))
+                self.assertEqual(str(inspect.signature(getattr(module, name))), arguments)
+            for method, its_arguments in methods.items():
+                with self.subTest(module=module.__name__, name=name, method=method):
+                    made = vars(getattr(module, name))
+                    self.assertIn(method, made)
+                    self.assertEqual(str(inspect.signature(made[method])), its_arguments)
 
 
 class TheLanguage(unittest.TestCase):

@@ -6,7 +6,7 @@ import unittest
 from laybeside import scales
 from laybeside.errors import NoLetter, Wrong
 from laybeside.scales import EACH, OPENING, Scale
-from tests.helper import SIGNS, SMALL, refused, shape, strangers
+from tests.helper import SIGNS, SMALL, bad_rows, refused, shape, strangers
 
 # Letters in and out of the order of the letters, one to eight of them.
 LETTERS = ["a", "z", "ab", "ba", "cab", "xay", "dbca", "zyxwv", "qazwsx", "gfedcba", "hbdfaceg", "abcdefgh"]
@@ -393,10 +393,7 @@ class WhatAScaleIsMadeOf(unittest.TestCase):
         self.assertEqual(told(Scale("cd", worths)), ("cd", [[1, 2], [3, 4]], 3, 1))
 
 
-BAD_ROWS = strangers() + [
-    True, False, 0, 1, -1, (), ("a",), ("a", "b"), ["a", "b"], "A", "aB", "a b", " a", "a ", "a\n", "\na", "-", "a-b",
-    "a1", "1", "`", "{", "a" * 41, "b" * 1000, "ab" * 20 + "a",
-]
+BAD_ROWS = bad_rows()
 BAD_ONES = BAD_ROWS + ["", "aa", "ab", "ba", "a" * 40]
 
 
