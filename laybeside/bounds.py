@@ -21,10 +21,13 @@ def _bounds_of_cell(lines, steps, at, to, anywhere):
 
 
 def fill_line(lines, steps, at, anywhere):
-    """Put the bounds of a line into lines, a list or a dict, by those of the line behind it."""
-    line = [None] * (steps.wide() + 1)
+    """Put the bounds of a line into lines, a list or a dict, by those of the line behind it.
+
+    What stands in the line ahead of the strip within which the steps are held is None.
+    """
+    line = [None] * (steps.last(at) + 1)
     lines[at] = line
-    for to in range(steps.wide(), -1, -1):
+    for to in range(steps.last(at), steps.first(at) - 1, -1):
         line[to] = _bounds_of_cell(lines, steps, at, to, anywhere)
 
 

@@ -1,7 +1,7 @@
 """Paths through a field: what their steps are worth, and the rows that are laid by them."""
 
 from laybeside.errors import Bare, Unlike, refuse_no_place, refuse_wrong
-from laybeside.fields import Field
+from laybeside.fields import MOST, Field
 from laybeside.kinds import are_ends, is_from_nought, is_gapped, is_path, is_row, is_step
 
 WHOLE = (False, False, False, False)
@@ -15,10 +15,11 @@ PASSED = {"b": (1, 1), "o": (1, 0), "u": (0, 1)}
 class Steps:
     """The steps of a field, some ends given: which lead on, and what they are worth.
 
+    They may be held within a strip, of the cells (at, to) with low <= to - at <= high_edge.
     Nothing that is handed in is looked at, as whoever asks has looked at it already.
     """
 
-    def __init__(self, field, ends):
+    def __init__(self, field, ends, *, low=-MOST, high_edge=MOST):
         self._high = field.high()
         self._wide = field.wide()
         self._pairs = field.pairs()
@@ -26,20 +27,31 @@ class Steps:
         self._under = field.under_prices()
         self._opening = field.opening()
         self._ends = ends
+        self._low = low
+        self._high_edge = high_edge
 
     def high(self):
         """How many places over there are."""
         return self._high
 
-    def wide(self):
-        """How many places under there are."""
-        return self._wide
+    def first(self, at):
+        """The first column of a line within the strip."""
+        return max(0, at + self._low)
+
+    def last(self, at):
+        """The last column of a line within the strip."""
+        return min(self._wide, at + self._high_edge)
 
     def leading_on(self, at, to):
         """The steps that lead on from a cell, in their order."""
-        if at < self._high:
-            return "bou" if to < self._wide else "o"
-        return "u" if to < self._wide else ""
+        told = ""
+        if at < self._high and to < self._wide:
+            told += "b"
+        if at < self._high and self.first(at + 1) <= to:
+            told += "o"
+        if to + 1 <= self.last(at):
+            told += "u"
+        return told
 
     def worth(self, at, to, step, ahead):
         """What a step at a cell is worth behind another one."""

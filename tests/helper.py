@@ -194,3 +194,16 @@ def reckoned(parts, path, ends=(False,) * 4, at=0, to=0, ahead="b"):
             to += 1
         ahead = step
     return worth
+
+
+def cells_in(parts):
+    """All cells of the field that is made of these parts."""
+    return list(itertools.product(range(len(parts[1]) + 1), range(len(parts[2]) + 1)))
+
+
+def best_paths(parts, ends):
+    """The paths that are worth the most, rising."""
+    paths = all_paths(len(parts[1]), len(parts[2]))
+    worths = [reckoned(parts, path, ends) for path in paths]
+    most = max(worths)
+    return [path for path, worth in zip(paths, worths) if worth == most]

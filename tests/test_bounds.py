@@ -9,8 +9,8 @@ from laybeside.errors import NoPlace
 from laybeside.fields import Field, field_of
 from laybeside.paths import FREE, WHOLE, WITHIN, fits, step_worth, turned_path, worth_of_path
 from laybeside.scales import Scale
-from tests.helper import (all_paths, assert_wrong, bad_ends, bad_places, bad_steps, field_from, knot, no_objects,
-                          parts_of, reckoned, refused, shape, strangers, told_by)
+from tests.helper import (all_paths, assert_wrong, bad_ends, bad_places, bad_steps, best_paths, cells_in, field_from,
+                          knot, no_objects, parts_of, reckoned, refused, shape, strangers, told_by)
 
 ENDS = list(itertools.product((False, True), repeat=4))
 GREAT = 10 ** 12
@@ -24,23 +24,11 @@ SMALL_FIELDS += [([[0] * 3] * 3, [0] * 3, [0] * 3, 0), ([[-9] * 3] * 2, [1] * 2,
 LARGER_FIELDS = [parts_of(1, 4, 4), parts_of(2, 5, 3, -2, 2, 1, 1), parts_of(3, 4, 5, -8, 3), parts_of(4, 1, 9)]
 
 
-def cells_in(parts):
-    """All cells of the field that is made of these parts."""
-    return list(itertools.product(range(len(parts[1]) + 1), range(len(parts[2]) + 1)))
-
-
 def bounds_one_by_one(parts, ends):
     """The table, by all paths from each cell on, one by one."""
     high, wide = len(parts[1]), len(parts[2])
     return [[tuple(max(reckoned(parts, path, ends, at, to, ahead) for path in all_paths(high - at, wide - to))
                    for ahead in "bou") for to in range(wide + 1)] for at in range(high + 1)]
-
-
-def best_paths(parts, ends):
-    """The paths that are worth the most, rising."""
-    paths = all_paths(len(parts[1]), len(parts[2]))
-    worths = [reckoned(parts, path, ends) for path in paths]
-    return [path for path, worth in zip(paths, worths) if worth == max(worths)]
 
 
 def bounds_by_the_words(parts, ends):

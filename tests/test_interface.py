@@ -5,7 +5,7 @@ import inspect
 import pathlib
 import unittest
 
-from laybeside import bounds, errors, fields, kinds, paths, scales
+from laybeside import bounds, chains, cuts, errors, fields, kinds, paths, scales, stretches, strips
 
 PACKAGE = pathlib.Path(__file__).resolve().parent.parent / "laybeside"
 
@@ -30,6 +30,9 @@ FUNCTIONS = {
         "turned_path": "(path)", "gapped": "(over, under, path)", "path_between": "(one, other)",
     },
     bounds: {"is_fair": f"(field, table, *, ends={WHOLE})"},
+    stretches: {"within": "(over, under, scale)"},
+    cuts: {"cut_way": f"(field, *, ends={WHOLE})"},
+    strips: {"strip_way": "(field, *, breadth=2)", "strip_paper": "(field, low, high_edge)"},
 }
 CLASSES = {
     (scales, "Scale", "(letters, worths, *, opening=3, each=1)"): {
@@ -42,6 +45,12 @@ CLASSES = {
     },
     (bounds, "Bounds", f"(field, *, ends={WHOLE})"): {
         "bound": "(self, at, to, step)", "table": "(self)", "worth": "(self)", "path": "(self)", "ends": "(self)",
+    },
+    (stretches, "Stretches", "(field)"): {
+        "bound": "(self, at, to, step)", "table": "(self)", "worth": "(self)", "told": "(self)",
+    },
+    (chains, "Chain", "(field, *, fee=1)"): {
+        "bound": "(self, at, to, state)", "worth": "(self)", "text": "(self)", "told": "(self)",
     },
 }
 
