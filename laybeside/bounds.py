@@ -39,13 +39,19 @@ def table_of(steps, anywhere):
     return table
 
 
+def meeting_steps(lines, steps, at, to, ahead):
+    """The steps that lead on and meet the bound, in their order."""
+    bound = lines[at][to][STEPS.index(ahead)]
+    return [
+        step for step in steps.leading_on(at, to)
+        if steps.worth(at, to, step, ahead) + bound_behind(lines, at, to, step) == bound
+    ]
+
+
 def first_step(lines, steps, at, to, ahead):
     """The first step that leads on and meets the bound; None where there is none."""
-    bound = lines[at][to][STEPS.index(ahead)]
-    for step in steps.leading_on(at, to):
-        if steps.worth(at, to, step, ahead) + bound_behind(lines, at, to, step) == bound:
-            return step
-    return None
+    meeting = meeting_steps(lines, steps, at, to, ahead)
+    return meeting[0] if meeting else None
 
 
 def path_by(table, steps):

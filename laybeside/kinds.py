@@ -67,6 +67,11 @@ def is_row(thing):
     return _is_text_of(thing, SMALL, 0, MOST_ROW)
 
 
+def is_filled_row(thing):
+    """Whether it is a text of 1 to 40 small letters."""
+    return _is_text_of(thing, SMALL, 1, MOST_ROW)
+
+
 def is_name(thing):
     """Whether it is a text of 1 to 8 small letters."""
     return _is_text_of(thing, SMALL, 1, MOST_NAME)

@@ -141,7 +141,7 @@ def turned_path(path):
     return "".join([TURNED[step] for step in path])
 
 
-def _spread(row, path, gap):
+def spread(row, path, gap):
     """The row laid by the path, with - for each step of the kind that is a gap in it."""
     letters = ""
     at = 0
@@ -159,7 +159,7 @@ def gapped(over, under, path):
     refuse_wrong([is_row(over), is_row(under), is_path(path)])
     if not _has_so_many(path, len(over), len(under)):
         raise Unlike()
-    return _spread(over, path, "u"), _spread(under, path, "o")
+    return spread(over, path, "u"), spread(under, path, "o")
 
 
 def _step_between(one, other):

@@ -56,6 +56,32 @@ def bad_rows():
     ]
 
 
+def bad_filled_rows():
+    """Things that are no rows of one letter or more."""
+    return bad_rows() + [""]
+
+
+def bad_letters():
+    """Things that are no letters."""
+    return strangers() + [
+        True, False, 0, 1, -1, (), ("a",), ["a"], "", "A", "aa", "ab", "a ", " a", "a\n", "\n", " ", "-", "0", "1", "`",
+        "{", "over", "a" * 41,
+    ]
+
+
+def bad_sides():
+    """Things that are no sides."""
+    return strangers() + [
+        True, False, 0, 1, -1, (), ("over",), ("over", "under"), "", "o", "u", "Over", "UNDER", "over ", " under",
+        "over\n", "overunder", "ove", "row",
+    ]
+
+
+def bad_takes():
+    """Things that are no whole numbers from 1 to 40."""
+    return strangers() + [True, False, 0, -1, 41, 42, 60, 10 ** 300, -(10 ** 300), "", "1", (), (1,), [1]]
+
+
 def bad_places():
     """Things that are no whole numbers from 0 on."""
     return strangers() + [True, False, -1, -2, -60, -(10 ** 300), "", "0", "1", (), (0,), (1,)]
@@ -129,6 +155,11 @@ def assert_wrong(case, call, right, wrong, names=()):
             things = [bad[number % len(bad)] if is_bad else good for good, bad, is_bad in triples]
             with case.subTest(which=which, number=number):
                 assert_refused(things, which.index(True))
+
+
+def row_of(seed, many, letters="abc"):
+    """A row of so many of these letters, always the same one for a seed."""
+    return "".join(letters[at] for at in drawn(seed, many, 0, len(letters) - 1))
 
 
 def drawn(seed, many, least, most):

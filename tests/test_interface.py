@@ -5,7 +5,8 @@ import inspect
 import pathlib
 import unittest
 
-from laybeside import bounds, chains, cuts, errors, fields, kinds, paths, scales, stretches, strips
+from laybeside import (bounds, chains, cuts, errors, fields, joins, kinds, paths, scales, sheets, stretches, strips,
+                       ways)
 
 PACKAGE = pathlib.Path(__file__).resolve().parent.parent / "laybeside"
 
@@ -33,6 +34,7 @@ FUNCTIONS = {
     stretches: {"within": "(over, under, scale)"},
     cuts: {"cut_way": f"(field, *, ends={WHOLE})"},
     strips: {"strip_way": "(field, *, breadth=2)", "strip_paper": "(field, low, high_edge)"},
+    joins: {"joined_all": "(rows, scale)"},
 }
 CLASSES = {
     (scales, "Scale", "(letters, worths, *, opening=3, each=1)"): {
@@ -51,6 +53,20 @@ CLASSES = {
     },
     (chains, "Chain", "(field, *, fee=1)"): {
         "bound": "(self, at, to, state)", "worth": "(self)", "text": "(self)", "told": "(self)",
+    },
+    (ways, "Ways", f"(field, *, ends={WHOLE})"): {
+        "many": "(self)", "path_at": "(self, number)", "number_of": "(self, path)", "in_all": "(self)",
+        "in_some": "(self)",
+    },
+    (sheets, "Sheet", "(over, under, scale)"): {
+        "put": "(self, side, at, letters)", "take": "(self, side, at, many)", "turn": "(self, side, at, letter)",
+        "row": "(self, side)", "bound": "(self, at, to, step)", "worth": "(self)", "path": "(self)",
+        "copied": "(self)",
+    },
+    (joins, "Joined", "(rows)"): {
+        "rows": "(self)", "many": "(self)", "columns": "(self)", "counts": "(self)", "row_of": "(self, at)",
+        "between": "(self, at, to)", "without": "(self, at)", "field_with": "(self, other, scale)",
+        "joined_with": "(self, other, scale)",
     },
 }
 

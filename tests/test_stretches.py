@@ -10,8 +10,8 @@ from laybeside.fields import Field, field_of
 from laybeside.paths import WHOLE, WITHIN, step_worth
 from laybeside.scales import Scale
 from laybeside.stretches import Stretches, within
-from tests.helper import (SMALL, all_paths, assert_wrong, bad_places, bad_rows, bad_steps, best_paths, cells_in, drawn,
-                          field_from, no_objects, parts_of, reckoned, refused, told_by)
+from tests.helper import (SMALL, all_paths, assert_wrong, bad_places, bad_rows, bad_steps, best_paths, cells_in,
+                          field_from, no_objects, parts_of, reckoned, refused, row_of, told_by)
 
 GREAT = 10 ** 12
 NO_FIELDS = no_objects() + [Field, Scale("a", [[1]]), Bounds(Field([], [], [])), Stretches(Field([], [], []))]
@@ -216,10 +216,6 @@ class WhatIsNotAsTold(unittest.TestCase):
 
 
 SCALE = Scale("abc", [[5, -4, -3], [-4, 5, -4], [-2, -4, 5]], opening=2, each=1)
-
-
-def row_of(seed, many, letters="abc"):
-    return "".join(letters[at] for at in drawn(seed, many, 0, len(letters) - 1))
 
 
 def within_by_the_words(path, worth, under):
