@@ -3,7 +3,8 @@
 import functools
 import itertools
 
-from laybeside.errors import Wrong
+from laybeside.bounds import Bounds
+from laybeside.errors import Alone, NoLetter, NoName, NoPlace, NoRow, NotOne, There, TooLong, TooMany, Wrong
 from laybeside.fields import Field
 
 SMALL = "abcdefghijklmnopqrstuvwxyz"
@@ -80,6 +81,20 @@ def bad_sides():
 def bad_takes():
     """Things that are no whole numbers from 1 to 40."""
     return strangers() + [True, False, 0, -1, 41, 42, 60, 10 ** 300, -(10 ** 300), "", "1", (), (1,), [1]]
+
+
+def bad_names():
+    """Things that are no names."""
+    return strangers() + [
+        True, False, 0, 1, -1, (), ("a",), ["a", "b"], "", "A", "aB", "a b", " a", "a ", "a\n", "\n", "-", "a-", "a1",
+        "1", "`", "{", "a" * 9, "overunder", "a" * 1000,
+    ]
+
+
+def no_texts():
+    """Things that are no texts."""
+    return strangers() + [True, False, 0, 1, -1, 12, 10 ** 300, (), ("a",), ("3b",), ("row", "a", "ab"), b"3b",
+                          ["names"]]
 
 
 def bad_places():
@@ -238,3 +253,175 @@ def best_paths(parts, ends):
     worths = [reckoned(parts, path, ends) for path in paths]
     most = max(worths)
     return [path for path, worth in zip(paths, worths) if worth == most]
+
+
+def without_bare(rows):
+    """The rows without the columns in which no letter stands."""
+    kept = [signs for signs in zip(*rows) if any(sign != "-" for sign in signs)]
+    return ["".join(signs) for signs in zip(*kept)] if kept else [""] * len(rows)
+
+
+def parts_by_the_words(over, under, scale):
+    """The parts of the field of two lists of gapped rows, by the words of point 44."""
+    columns, others = list(zip(*over)), list(zip(*under))
+    each = scale.each()
+
+    def letters(column):
+        return sum(1 for sign in column if sign != "-")
+
+    def gaps(column):
+        return sum(1 for sign in column if sign == "-")
+
+    def pair(column, other):
+        worth = 0
+        for one in column:
+            for beside in other:
+                if one != "-" and beside != "-":
+                    worth += scale.worth_of(one, beside)
+        return worth - each * (letters(column) * gaps(other) + gaps(column) * letters(other))
+
+    return ([[pair(column, other) for other in others] for column in columns],
+            [each * letters(column) * len(under) for column in columns],
+            [each * letters(other) * len(over) for other in others],
+            scale.opening() * len(over) * len(under))
+
+
+def laid(over, under, path):
+    """The columns of two lists of gapped rows laid by a path, as rows."""
+    told = [""] * (len(over) + len(under))
+    at = to = 0
+    for step in path:
+        column = [row[at] for row in over] if step != "u" else ["-"] * len(over)
+        column += [row[to] for row in under] if step != "o" else ["-"] * len(under)
+        told = [row + sign for row, sign in zip(told, column)]
+        at, to = at + (step != "u"), to + (step != "o")
+    return told
+
+
+class PlainBook:
+    """A book by the words of points 49 to 51, with a copy of all that is kept behind each deed."""
+
+    def __init__(self, scale):
+        self.scale = scale
+        self.states = [[]]
+        self.deeds = []
+        self.undone = []
+
+    def kept(self):
+        """Tuples of a name and its rows, in order."""
+        return self.states[-1]
+
+    def log(self):
+        """The log, by the words of points 48 and 54."""
+        return "".join(" ".join(str(part) if part != "" else "-" for part in deed) + "\n" for deed in self.deeds)
+
+    def due(self, deed):
+        """The refusal that is due for a deed, and what it keeps, in a tuple; None where there is none."""
+        word, name = deed[:2]
+        rows_of = dict(self.kept())
+        asked = {"row": [], "join": deed[2:4], "without": deed[2:3]}.get(word, [name])
+        missing = [one for one in asked if one not in rows_of]
+        if missing:
+            return NoName, missing[0]
+        if word in ("row", "join", "without"):
+            if name in rows_of:
+                return There, name
+            if len(rows_of) >= 40:
+                return TooMany, 40
+        if word in ("put", "take", "turn"):
+            if len(rows_of[name]) != 1:
+                return NotOne, name
+            return self.due_of_letters(deed, rows_of[name][0])
+        if word == "row":
+            return self.strange(deed[2])
+        if word == "join":
+            return self.due_of_join(rows_of[deed[2]], rows_of[deed[3]])
+        if word == "without":
+            if deed[3] >= len(rows_of[deed[2]]):
+                return NoRow, deed[3]
+            if len(rows_of[deed[2]]) == 1:
+                return Alone,
+        return None
+
+    def strange(self, letters):
+        strange = [letter for letter in letters if letter not in self.scale.letters()]
+        return (NoLetter, strange[0]) if strange else None
+
+    def due_of_letters(self, deed, row):
+        word, _, at, more = deed
+        if at > len(row) or (word == "turn" and at == len(row)) or (word == "take" and at + more > len(row)):
+            return NoPlace, at
+        if word == "put" and len(row) + len(more) > 40:
+            return TooLong, 40
+        return self.strange(more) if word != "take" else None
+
+    def path_of_join(self, over, under):
+        """The path by which rows are joined."""
+        return Bounds(field_from(parts_by_the_words(over, under, self.scale))).path()
+
+    def due_of_join(self, over, under):
+        if len(over) + len(under) > 8:
+            return TooMany, 8
+        return (TooLong, 60) if len(self.path_of_join(over, under)) > 60 else None
+
+    def made(self, deed):
+        """The rows that stand for the name of a deed behind it."""
+        word = deed[0]
+        rows_of = dict(self.kept())
+        if word == "row":
+            return [deed[2]]
+        if word == "join":
+            over, under = rows_of[deed[2]], rows_of[deed[3]]
+            return laid(over, under, self.path_of_join(over, under))
+        if word == "without":
+            return without_bare([row for at, row in enumerate(rows_of[deed[2]]) if at != deed[3]])
+        letters = list(rows_of[deed[1]][0])
+        at, more = deed[2:]
+        letters[at:at + {"put": 0, "take": more, "turn": 1}[word]] = list(more) if word != "take" else []
+        return ["".join(letters)]
+
+    def do(self, deed):
+        """Do a deed that is not refused."""
+        word, name = deed[:2]
+        kept = list(self.kept())
+        if word == "drop":
+            kept = [pair for pair in kept if pair[0] != name]
+        elif word in ("put", "take", "turn"):
+            kept = [(one, self.made(deed) if one == name else rows) for one, rows in kept]
+        else:
+            kept.append((name, self.made(deed)))
+        self.states.append(kept)
+        self.deeds.append(deed)
+        self.undone = []
+
+    def back(self):
+        self.undone.append((self.states.pop(), self.deeds.pop()))
+
+    def again(self):
+        state, deed = self.undone.pop()
+        self.states.append(state)
+        self.deeds.append(deed)
+
+
+def deeds_for(plain, seed, many, names="abcdefghijklmnopqrst", letters="ababababababax"):
+    """Deeds for a book as it stands when each is asked for, some of which are refused; always the same for a seed."""
+    numbers = iter(drawn(seed, 13 * many, 0, 10 ** 6))
+
+    def one_of(things):
+        # Now and then any name at all.
+        things = names if next(numbers) % 8 == 0 else things or names
+        return things[next(numbers) % len(things)]
+
+    for _ in range(many):
+        kept = dict(plain.kept())
+        new = one_of([name for name in names if name not in kept])
+        one, other = one_of(list(kept)), one_of(list(kept))
+        changed = one_of([name for name in kept if len(kept[name]) == 1])
+        word = ("row", "row", "put", "put", "take", "turn", "join", "without", "drop", "drop")[next(numbers) % 10]
+        row = row_of(next(numbers), next(numbers) % 6, letters)
+        at, number = next(numbers) % 3, next(numbers)
+        yield {
+            "row": ("row", new, row), "put": ("put", changed, at, row or "a"),
+            "take": ("take", changed, at, 1 + number % 2), "turn": ("turn", changed, at, (row or "b")[0]),
+            "join": ("join", new, one, other), "without": ("without", new, one, number % 2), "drop": ("drop", one),
+        }[word]

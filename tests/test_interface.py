@@ -5,8 +5,8 @@ import inspect
 import pathlib
 import unittest
 
-from laybeside import (bounds, chains, cuts, errors, fields, joins, kinds, paths, scales, sheets, stretches, strips,
-                       ways)
+from laybeside import (book, bounds, chains, cuts, deeds, desk, errors, fields, joins, kinds, paths, scales, sheets,
+                       stretches, strips, texts, ways)
 
 PACKAGE = pathlib.Path(__file__).resolve().parent.parent / "laybeside"
 
@@ -35,6 +35,12 @@ FUNCTIONS = {
     cuts: {"cut_way": f"(field, *, ends={WHOLE})"},
     strips: {"strip_way": "(field, *, breadth=2)", "strip_paper": "(field, low, high_edge)"},
     joins: {"joined_all": "(rows, scale)"},
+    texts: {
+        "show_path": "(path)", "show_laying": "(over, under, path)", "show_scale": "(scale)", "show_joined": "(joined)",
+        "read_path": "(text)", "read_laying": "(text)", "read_scale": "(text)", "read_joined": "(text)",
+    },
+    deeds: {"is_deed": "(thing)", "show_deed": "(deed)", "read_deed": "(text)"},
+    book: {"come_up": "(scale, text)"},
 }
 CLASSES = {
     (scales, "Scale", "(letters, worths, *, opening=3, each=1)"): {
@@ -68,6 +74,14 @@ CLASSES = {
         "between": "(self, at, to)", "without": "(self, at)", "field_with": "(self, other, scale)",
         "joined_with": "(self, other, scale)",
     },
+    (book, "Book", "(scale)"): {
+        "do": "(self, deed)", "back": "(self)", "again": "(self)",
+        "tried": f"(self, deeds, one, other, *, ends={WHOLE})", "names": "(self)", "rows_of": "(self, name)",
+        "laying": f"(self, one, other, *, ends={WHOLE})", "many": f"(self, one, other, *, ends={WHOLE})",
+        "path_at": f"(self, one, other, number, *, ends={WHOLE})", "banded": "(self, one, other, *, breadth=2)",
+        "stretch": "(self, one, other)", "log": "(self)",
+    },
+    (desk, "Desk", "(text)"): {"say": "(self, row)"},
 }
 
 

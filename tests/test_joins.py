@@ -9,8 +9,8 @@ from laybeside.errors import Alone, Bare, NoLetter, NoRow, TooLong, TooMany, Unl
 from laybeside.fields import Field, field_of
 from laybeside.joins import Joined, joined_all
 from laybeside.scales import Scale
-from tests.helper import (assert_wrong, bad_gapped, bad_places, bad_rows, best_paths, drawn, no_objects, refused,
-                          row_of, strangers, told_by)
+from tests.helper import (assert_wrong, bad_gapped, bad_places, bad_rows, best_paths, drawn, laid, no_objects,
+                          parts_by_the_words, refused, row_of, strangers, told_by, without_bare)
 
 SCALE = Scale("abc", [[5, -4, -3], [-4, 5, -4], [-2, -4, 5]], opening=2, each=1)
 # Many paths are worth as much by this one.
@@ -26,49 +26,6 @@ def joined_drawn(seed, many, columns, letters="abc", gaps=1):
         if all(row[column] == "-" for row in rows):
             rows[column % many][column] = letters[column % len(letters)]
     return ["".join(row) for row in rows]
-
-
-def without_bare(rows):
-    """The rows without the columns in which no letter stands."""
-    kept = [signs for signs in zip(*rows) if any(sign != "-" for sign in signs)]
-    return ["".join(signs) for signs in zip(*kept)] if kept else [""] * len(rows)
-
-
-def parts_by_the_words(over, under, scale):
-    """The parts of the field of two lists of gapped rows, by the words of point 44."""
-    columns, others = list(zip(*over)), list(zip(*under))
-    each = scale.each()
-
-    def letters(column):
-        return sum(1 for sign in column if sign != "-")
-
-    def gaps(column):
-        return sum(1 for sign in column if sign == "-")
-
-    def pair(column, other):
-        worth = 0
-        for one in column:
-            for beside in other:
-                if one != "-" and beside != "-":
-                    worth += scale.worth_of(one, beside)
-        return worth - each * (letters(column) * gaps(other) + gaps(column) * letters(other))
-
-    return ([[pair(column, other) for other in others] for column in columns],
-            [each * letters(column) * len(under) for column in columns],
-            [each * letters(other) * len(over) for other in others],
-            scale.opening() * len(over) * len(under))
-
-
-def laid(over, under, path):
-    """The columns of two lists of gapped rows laid by a path, as rows."""
-    told = [""] * (len(over) + len(under))
-    at = to = 0
-    for step in path:
-        column = [row[at] for row in over] if step != "u" else ["-"] * len(over)
-        column += [row[to] for row in under] if step != "o" else ["-"] * len(under)
-        told = [row + sign for row, sign in zip(told, column)]
-        at, to = at + (step != "u"), to + (step != "o")
-    return told
 
 
 def bad_joined():
@@ -102,7 +59,7 @@ class WhatIsTold(unittest.TestCase):
             joined = Joined(rows)
             with self.subTest(many=many, columns=columns):
                 self.assertEqual((joined.rows(), joined.many(), joined.columns()), (rows, many, columns))
-                expected = [[(letter, sum(1 for sign in signs if sign == letter)) for letter in "abc" if letter in signs]
+                expected = [[(letter, signs.count(letter)) for letter in "abc" if letter in signs]
                             for signs in zip(*rows)]
                 self.assertEqual(joined.counts(), expected)
                 self.assertEqual([joined.row_of(at) for at in range(many)], [row.replace("-", "") for row in rows])
@@ -121,7 +78,8 @@ class WhatIsTold(unittest.TestCase):
     def test_rows_without_letters(self):
         for many in range(1, 9):
             joined = Joined([""] * many)
-            self.assertEqual((joined.rows(), joined.many(), joined.columns(), joined.counts()), ([""] * many, many, 0, []))
+            self.assertEqual((joined.rows(), joined.many(), joined.columns(), joined.counts()),
+                             ([""] * many, many, 0, []))
             self.assertEqual((joined.row_of(many - 1), joined.between(0, many - 1)), ("", ""))
 
     def test_the_kinds_of_what_is_told(self):
@@ -143,7 +101,8 @@ class WhatIsTold(unittest.TestCase):
             refused(self, Unlike, Joined, rows)
 
     def test_columns_without_a_letter(self):
-        for rows, at in [(["-"], 0), (["a-"], 1), (["-a-"], 0), (["a-b", "a--"], 1), (["--", "--"], 0), (["ab-", "ab-"], 2),
+        for rows, at in [(["-"], 0), (["a-"], 1), (["-a-"], 0), (["a-b", "a--"], 1), (["--", "--"], 0),
+                         (["ab-", "ab-"], 2),
                          (["a" * 59 + "-"], 59), (["-" * 60] * 8, 0), (["a--", "---", "b--"], 1), (["ab--c-"], 2)]:
             with self.subTest(rows=rows):
                 self.assertEqual(refused(self, Bare, Joined, rows).at, at)
@@ -251,8 +210,9 @@ class TheFieldOfTwo(unittest.TestCase):
         self.assertEqual(told_by(field), ([[20 - 2, -12 - 2], [-8 - 3, -8 - 3]], [6, 3], [4, 4], 2 * 2 * 3))
 
     def test_strange_letters(self):
-        for over, under, letter in [(["axb", "yab"], ["z"], "x"), (["ab-", "-aq"], ["zab"], "q"), (["ab"], ["a-", "-z"], "z"),
-                                    (["ab"], ["az", "y-"], "z"), (["--", "zx"], ["ab"], "z"), ([""], ["x"], "x"),
+        for over, under, letter in [(["axb", "yab"], ["z"], "x"), (["ab-", "-aq"], ["zab"], "q"),
+                                    (["ab"], ["a-", "-z"], "z"), (["ab"], ["az", "y-"], "z"),
+                                    (["--", "zx"], ["ab"], "z"), ([""], ["x"], "x"),
                                     (["abz", "y--"], ["abc"], "z")]:
             for call in (Joined(over).field_with, Joined(over).joined_with):
                 self.assertEqual(refused(self, NoLetter, call, Joined(under), SCALE).letter, letter)
@@ -294,7 +254,8 @@ class JoinedWith(unittest.TestCase):
         for seed, (columns, others) in enumerate([(60, 60), (40, 40), (60, 1), (1, 60), (60, 0), (0, 60), (35, 50)]):
             for many, more in ((1, 1), (7, 1), (1, 7), (4, 4), (3, 2)):
                 for scale in (SCALE, FLAT):
-                    self.assert_joined(joined_drawn(seed, many, columns), joined_drawn(seed + 9, more, others, gaps=0), scale)
+                    self.assert_joined(joined_drawn(seed, many, columns), joined_drawn(seed + 9, more, others, gaps=0),
+                                       scale)
 
     def test_by_hand(self):
         scale = Scale("abc", [[5, -4, -4], [-4, 5, -4], [-4, -4, 5]], opening=2, each=1)
@@ -380,7 +341,8 @@ class JoinedAll(unittest.TestCase):
 
     def test_strange_letters_go_ahead(self):
         apart = Scale("ab", [[5, -9], [-9, 5]], opening=0, each=1)
-        for rows, letter in [(["x"], "x"), (["ab", "ay", "x"], "y"), (["ab", "ba", "zx"], "z"), (["a" * 40, "b" * 40, "c"], "c"),
+        for rows, letter in [(["x"], "x"), (["ab", "ay", "x"], "y"), (["ab", "ba", "zx"], "z"),
+                             (["a" * 40, "b" * 40, "c"], "c"),
                              (["a" * 40, "b" * 40, "", "aq"], "q"), (["x", "y"], "x"), (["", "yx"], "y")]:
             self.assertEqual(refused(self, NoLetter, joined_all, rows, apart).letter, letter)
 

@@ -165,7 +165,8 @@ class Deeds(AsAfresh):
                 sheet = Sheet(row, row, SCALE)
                 self.assertEqual(sheet.put(side, many, letters), 40)
                 self.assertEqual(sheet.row(side), row + letters)
-        for many, letters in [(1, "a" * 40), (40, "a"), (40, "x"), (39, "bx"), (21, "x" * 20), (38, "cab"), (40, "ab" * 20)]:
+        for many, letters in [(1, "a" * 40), (40, "a"), (40, "x"), (39, "bx"), (21, "x" * 20), (38, "cab"),
+                              (40, "ab" * 20)]:
             row = row_of(many, many)
             for side, at in itertools.product(SIDES, (0, many // 2, many)):
                 sheet = Sheet(row, row, SCALE)
@@ -330,7 +331,8 @@ class TheToldLines(AsAfresh):
         for side in SIDES:
             sheet = Sheet(row_of(1, 30), row_of(2, 30), SCALE)
             for deed in [("put", side, 30, "abcabcabca"), ("take", side, 0, 10), ("put", side, 0, "ccc"),
-                         ("turn", side, 0, "b"), ("turn", side, 32, "b"), ("take", side, 32, 1), ("take", side, 15, 10)]:
+                         ("turn", side, 0, "b"), ("turn", side, 32, "b"), ("take", side, 32, 1),
+                         ("take", side, 15, 10)]:
                 self.assert_lines(sheet, deed)
 
 
@@ -366,7 +368,8 @@ class Copied(AsAfresh):
 
     def test_the_same_is_told_again(self):
         sheet = Sheet("abca", "cab", SCALE)
-        asks = [sheet.worth, sheet.path, lambda: sheet.row("over"), lambda: table_of(sheet), lambda: sheet.copied().path()]
+        asks = [sheet.worth, sheet.path, lambda: sheet.row("over"), lambda: table_of(sheet),
+                lambda: sheet.copied().path()]
         expected = [ask() for ask in asks]
         for order in itertools.permutations(range(5)):
             for which in order:
